@@ -1,0 +1,1 @@
+"""Raisedwreck: what can be brought back from spoilt disks."""
