@@ -43,10 +43,18 @@ def places_hold(parts, places, sketches):
 def judge_history(machine, image, piece, disk, deeds):
     """True if a history ends in the image and does not have the piece (point 22), otherwise False."""
     check_question(machine, image, piece)
+    disks = moments_into(machine, image, disk, deeds)
+    if disks is None:
+        return False
+    return not any([has_piece(piece, moment) for moment in disks])
+
+
+def moments_into(machine, image, disk, deeds):
+    """The moments of a history that ends in the image, or None if a disk and deeds are no such history."""
     try:
         disks = moments(machine, disk, deeds)
     except (InvalidDisk, NoSuchDeed, CannotDo):
-        return False
+        return None
     if not contains(image, disks[-1]):
-        return False
-    return not any([has_piece(piece, moment) for moment in disks])
+        return None
+    return disks

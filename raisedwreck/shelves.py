@@ -32,6 +32,18 @@ class Shelf:
                 return -1
         return (indexes & -indexes).bit_length() - 1
 
+    def holding(self, disk):
+        """The list of the sketches in which a disk is."""
+        indexes = (1 << len(self.sketches)) - 1
+        for cell, value in enumerate(disk):
+            indexes = indexes & self.having[cell][value]
+        found = []
+        while indexes:
+            index = indexes.bit_length() - 1
+            found.append(self.sketches[index])
+            indexes = indexes ^ (1 << index)
+        return found
+
 
 def put_largest_first(shelf, sketches):
     """Put those of the sketches on a shelf that are included in no other one, and return the list of them."""

@@ -63,6 +63,14 @@ def without_one(a, b):
     return left
 
 
+def sketch_with(sketch, pairs):
+    """A sketch with the masks of pairs of a cell and a mask in these cells."""
+    masks = list(sketch)
+    for cell, mask in pairs:
+        masks[cell] = mask
+    return tuple(masks)
+
+
 def has_piece(piece, disk):
     """True if a disk has a piece, otherwise False."""
     for sketch in piece:

@@ -6,13 +6,23 @@ from raisedwreck.shelves import Shelf, put_largest_first
 from raisedwreck.sketches import least_disk, meet, meets, without
 
 
+def kept_rows(rows):
+    """Rows of numbers as a tuple of tuples."""
+    return tuple([tuple(row) for row in rows])
+
+
+def kept_table(table):
+    """Rows of rows of numbers as a tuple of tuples of tuples."""
+    return tuple([kept_rows(row) for row in table])
+
+
 class Paper:
     """A paper for a told piece: a list of sketches, a cover and a table (point 20)."""
 
     def __init__(self, sketches, cover, table):
-        self.sketches = tuple([tuple(sketch) for sketch in sketches])
+        self.sketches = kept_rows(sketches)
         self.cover = tuple(cover)
-        self.table = tuple([tuple([tuple(entry) for entry in row]) for row in table])
+        self.table = kept_table(table)
 
     def __eq__(self, other):
         return (isinstance(other, Paper) and self.sketches == other.sketches
@@ -37,17 +47,30 @@ def tell(machine, image, piece):
     """The Answer to the question whether a piece is told for an image (point 19)."""
     check_question(machine, image, piece)
     search = Search(machine, piece)
-    start = search.go_back(image, machine.first)
+    start = search.go_back(without(image, piece), machine.first)
     if start is None:
         return Answer(True, write_paper(machine, image, piece, search.shelf.sketches), None, None)
-    return Answer(False, None, least_disk(meet(start, machine.first)), search.deeds_from(start))
+    disk, deeds = search.history_from(start)
+    return Answer(False, None, disk, deeds)
+
+
+def shortest_history(machine, parts, piece):
+    """The first disk and the deeds of a history without the piece that ends in one of the parts, or None.
+
+    The parts are sketches whose disks do not have the piece. No such history has fewer deeds.
+    """
+    search = Search(machine, piece)
+    start = search.go_back(parts, machine.first)
+    if start is None:
+        return None
+    return search.history_from(start)
 
 
 class Search:
-    """The sketches from whose disks deeds lead into an image without a piece.
+    """The sketches from whose disks deeds lead into some parts without a piece.
 
     For each of them, steps has the deed and the sketch to which it leads, or
-    None if the sketch itself is a part of the image.
+    None if the sketch itself is one of the parts.
     """
 
     def __init__(self, machine, piece):
@@ -56,19 +79,20 @@ class Search:
         self.shelf = Shelf(machine.full)
         self.steps = {}
 
-    def go_back(self, image, goal):
-        """Go back from an image to a sketch that meets the goal, and return it, or None if there is none.
+    def go_back(self, parts, goal):
+        """Go back from the parts to a sketch that meets the goal, and return it, or None if there is none.
 
         The sketches are found in the order of the number of deeds on the way to the
-        image, so no way that is shorter leads there from the goal.
+        parts, so no way that is shorter leads there from the goal. If the goal is
+        None, all sketches are found.
         """
-        steps = {part: None for part in without(image, self.piece)}
+        steps = {part: None for part in parts}
         while steps:
             news = put_largest_first(self.shelf, list(steps))
             for sketch in news:
                 self.steps[sketch] = steps[sketch]
             for sketch in news:
-                if meets(sketch, goal):
+                if goal is not None and meets(sketch, goal):
                     return sketch
             steps = self.steps_before(news)
         return None
@@ -86,22 +110,40 @@ class Search:
         return steps
 
     def deeds_from(self, sketch):
-        """The deeds that lead from each disk of a sketch that was found to a disk of the image."""
+        """The deeds that lead from each disk of a sketch that was found to a disk of the parts."""
         deeds = []
         step = self.steps[sketch]
         while step is not None:
             deed, later = step
             deeds.append(deed)
             step = self.steps[later]
-        return deeds
+        return tuple(deeds)
+
+    def history_from(self, sketch):
+        """A first disk in a sketch that was found, and the deeds that lead from it to a disk of the parts."""
+        return least_disk(meet(sketch, self.machine.first)), self.deeds_from(sketch)
 
 
 def write_paper(machine, image, piece, sketches):
     """The Paper of sketches that cover the image and are closed, both without the piece."""
-    # Smaller sketches that were found before the larger ones would only make the table longer.
+    shelf = shelf_of_largest(machine, sketches)
+    return Paper(shelf.sketches, places(shelf, without(image, piece)), write_table(machine, piece, shelf))
+
+
+def shelf_of_largest(machine, sketches):
+    """A shelf with those of the sketches that are included in no other one."""
+    # Smaller sketches that were found before the larger ones would only make a table longer.
     shelf = Shelf(machine.full)
-    kept = put_largest_first(shelf, sketches)
-    cover = [shelf.place(part) for part in without(image, piece)]
-    table = [[[shelf.place(part) for part in left_before(machine, sketch, deed, piece)]
-              for deed in range(len(machine.deeds))] for sketch in kept]
-    return Paper(kept, cover, table)
+    put_largest_first(shelf, sketches)
+    return shelf
+
+
+def places(shelf, parts):
+    """For each part, the index of a sketch on the shelf in which it is included."""
+    return [shelf.place(part) for part in parts]
+
+
+def write_table(machine, piece, shelf):
+    """The table (point 20) of the sketches on a shelf, which are closed without the piece."""
+    return [[places(shelf, left_before(machine, sketch, deed, piece)) for deed in range(len(machine.deeds))]
+            for sketch in shelf.sketches]

@@ -77,6 +77,11 @@ def disks_of(machine):
     return list(itertools.product(*[range(size) for _, size in machine.cells]))
 
 
+def disks_in(sketch):
+    """All disks in a sketch."""
+    return list(itertools.product(*[[value for value in range(16) if mask & (1 << value)] for mask in sketch]))
+
+
 def done(machine, disk, deed):
     """The disk after a deed, or None if it cannot be done."""
     _, guard, changes = machine.deeds[deed]
@@ -96,7 +101,7 @@ def steps_of(machine, disk):
 
 def least_deeds(machine, image, piece):
     """The least number of deeds of a history that ends in the image without the piece, or None."""
-    level = [disk for disk in disks_of(machine) if is_in(disk, machine.first) and not is_in_some(disk, piece)]
+    level = [disk for disk in disks_in(machine.first) if not is_in_some(disk, piece)]
     seen = set(level)
     deeds = 0
     while level:
@@ -152,23 +157,61 @@ def plain_places_hold(parts, places, sketches):
         for part, place in zip(parts, places))
 
 
-def plain_judge(machine, image, piece, paper):
-    """True if a paper is as point 20 says, part by part."""
-    for sketch in paper.sketches:
-        if len(sketch) != len(machine.full) or not all(1 <= x <= most for x, most in zip(sketch, machine.full)):
-            return False
-        if all(x & y for x, y in zip(sketch, machine.first)):
-            return False
-    if not plain_places_hold(plain_without(image, piece), paper.cover, paper.sketches):
+def plain_table_holds(machine, piece, sketches, table):
+    """True if a table shows, part by part, that the sketches are closed without the piece."""
+    if len(table) != len(sketches):
         return False
-    if len(paper.table) != len(paper.sketches):
-        return False
-    for sketch, row in zip(paper.sketches, paper.table):
+    for sketch, row in zip(sketches, table):
         if len(row) != len(machine.deeds):
             return False
         for deed, entry in enumerate(row):
             earlier = plain_before(machine, sketch, deed)
             parts = [] if earlier is None else plain_without(earlier, piece)
-            if not plain_places_hold(parts, entry, paper.sketches):
+            if not plain_places_hold(parts, entry, sketches):
                 return False
     return True
+
+
+def plain_fits(machine, sketch):
+    return len(sketch) == len(machine.full) and all(1 <= x <= most for x, most in zip(sketch, machine.full))
+
+
+def plain_meet(a, b):
+    """The meet of two sketches, or None if there is none."""
+    found = tuple(x & y for x, y in zip(a, b))
+    return found if all(found) else None
+
+
+def plain_judge(machine, image, piece, paper):
+    """True if a paper is as point 20 says, part by part."""
+    for sketch in paper.sketches:
+        if not plain_fits(machine, sketch) or plain_meet(sketch, machine.first) is not None:
+            return False
+    if not plain_places_hold(plain_without(image, piece), paper.cover, paper.sketches):
+        return False
+    return plain_table_holds(machine, piece, paper.sketches, paper.table)
+
+
+def reached(machine, piece=()):
+    """The disks that are the last moment of a history without the piece."""
+    found = {disk for disk in disks_in(machine.first) if not is_in_some(disk, piece)}
+    waiting = sorted(found)
+    while waiting:
+        for new in steps_of(machine, waiting.pop()):
+            if new not in found and not is_in_some(new, piece):
+                found.add(new)
+                waiting.append(new)
+    return found
+
+
+def moments_of(machine, disk, deeds):
+    """The moments of a history, or None if the disk and the deeds are none."""
+    if disk not in disks_in(machine.first):
+        return None
+    disks = [disk]
+    for deed in deeds:
+        new = done(machine, disks[-1], deed) if deed in range(len(machine.deeds)) else None
+        if new is None:
+            return None
+        disks.append(new)
+    return disks

@@ -8,7 +8,7 @@ from raisedwreck.errors import InvalidSketch
 from raisedwreck.judging import judge_history, judge_paper
 from raisedwreck.machines import Machine
 from raisedwreck.telling import Paper, tell
-from tests import samples
+from tests import changes, samples
 
 
 def two_ways():
@@ -25,33 +25,16 @@ PIECE = [(2, 2)]
 SKETCHES = [(4, 3)]
 
 
-def changed_numbers(values, numbers):
-    """All tuples in which one of the values is another one of the numbers, or is left out, or one more stands."""
-    for at in range(len(values) + 1):
-        yield values[:at] + (0,) + values[at:]
-        yield values[:at] + values[at + 1:]
-        for number in numbers:
-            yield values[:at] + (number,) + values[at + 1:]
-
-
 def changed_papers(machine, paper):
     """All papers that differ from a paper in one place, and some equal ones."""
     sketches, cover, table = paper.sketches, paper.cover, paper.table
     numbers = range(-1, len(sketches) + 1)
-    for new in changed_numbers(cover, numbers):
+    for new in changes.changed_numbers(cover, numbers):
         yield Paper(sketches, new, table)
-    for at, sketch in enumerate(sketches):
-        for mask in changed_numbers(sketch, range(-1, max(machine.full) + 2)):
-            yield Paper(sketches[:at] + (mask,) + sketches[at + 1:], cover, table)
-        yield Paper(sketches[:at] + sketches[at + 1:], cover, table)
-    yield Paper(sketches + (machine.full,), cover, table)
-    for at, row in enumerate(table):
-        for rows in ((), (row, row), (row[:-1],), (row + ((),),)):
-            yield Paper(sketches, cover, table[:at] + rows + table[at + 1:])
-        for deed, entry in enumerate(row):
-            for new in changed_numbers(entry, numbers):
-                changed = row[:deed] + (new,) + row[deed + 1:]
-                yield Paper(sketches, cover, table[:at] + (changed,) + table[at + 1:])
+    for new in changes.changed_sketches(machine, sketches):
+        yield Paper(new, cover, table)
+    for new in changes.changed_tables(table, numbers):
+        yield Paper(sketches, cover, new)
 
 
 class JudgingPapers(unittest.TestCase):
