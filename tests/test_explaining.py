@@ -177,6 +177,19 @@ class Counting(unittest.TestCase):
             self.assertEqual(count_histories(machine, full, 5), disks // 8)
             self.assertEqual(count_histories(machine, (1,) + full[1:], 5), disks // 16)
 
+    def test_many_first_disks_that_are_not_all_disks(self):
+        # On a first disk the first two cells are 0, and the thirteen others have any value.
+        deeds = [("up", ((0, 1),), ((0, ("set", 1)),)), ("take", ((0, 2),), ((1, ("copy", 2)),)),
+                 ("back", (), ((0, ("set", 0)), (2, ("set", 1))))]
+        cells = [(f"c{at}", 2) for at in range(15)]
+        machine = Machine(cells, deeds, (1, 1) + (3,) * 13)
+        small = Machine(cells[:3], deeds, (1, 1, 3))
+        for length in range(7):
+            for image in ((3, 3, 3), (2, 3, 3), (1, 2, 3), (2, 2, 1), (1, 2, 1), (3, 1, 1)):
+                # Of the twelve cells that no deed touches, two have one value in the image.
+                expected = 2 ** 10 * plain_count(small, image, length)
+                self.assertEqual(count_histories(machine, image + (3, 2, 1) + (3,) * 9, length), expected)
+
     def test_far_more_first_disks_than_a_walk_could_see(self):
         machine = wide(24, 16, [("set", (), ((0, ("set", 5)),))])
         self.assertEqual(count_histories(machine, (65535,) * 24, 0), 16 ** 24)

@@ -78,6 +78,15 @@ class Language(unittest.TestCase):
                     for alias in node.names:
                         self.assertIn(alias.name, defined[node.module], name)
 
+    def test_no_variable_has_the_name_of_a_class_or_an_import_of_its_file(self):
+        for name, tree in self.trees:
+            taken = {node.name for node in tree.body if isinstance(node, ast.ClassDef)}
+            taken |= {alias.name for node in ast.walk(tree) if isinstance(node, ast.ImportFrom) for alias in node.names}
+            variables = [node.id for node in ast.walk(tree) if isinstance(node, ast.Name)
+                         and isinstance(node.ctx, ast.Store)]
+            variables += [node.arg for node in ast.walk(tree) if isinstance(node, ast.arg)]
+            self.assertFalse(taken & set(variables), name)
+
     def test_statements_and_builtins(self):
         for name, tree in self.trees:
             names = set(bound_names(tree))
