@@ -11,13 +11,17 @@ LONGEST_NUMBER = 9
 def format_machine(machine):
     """The text of a machine."""
     lines = [f"cell {name} {size}" for name, size in machine.cells]
-    for (name, size), mask, most in zip(machine.cells, machine.first, machine.full):
-        if mask != most:
-            lines.append(f"first {name} {format_mask(mask)}")
+    lines.extend(mask_lines("first", machine, machine.first))
     names = [name for name, size in machine.cells]
     for deed in machine.deeds:
         lines.extend(deed_lines(names, deed))
     return "".join([line + "\n" for line in lines])
+
+
+def mask_lines(word, machine, sketch):
+    """The lines with a word for the cells whose masks in a sketch of the machine are not the sets of all values."""
+    return [f"{word} {name} {format_mask(mask)}"
+            for (name, size), mask, most in zip(machine.cells, sketch, machine.full) if mask != most]
 
 
 def deed_lines(names, deed):
@@ -71,6 +75,21 @@ class Draft:
             return -1
         return number
 
+    def next_pair(self, pairs, words):
+        """The pair of a cell and a mask that words write, or None if they do not, or it cannot follow the pairs."""
+        cell = self.next_cell(pairs, words[0]) if words else -1
+        if cell < 0:
+            return None
+        mask = read_mask(words[1:], self.size(cell))
+        return (cell, mask) if mask else None
+
+    def next_part(self, pairs, words):
+        """As next_pair, but None also for the mask of all values."""
+        pair = self.next_pair(pairs, words)
+        if pair is None or pair[1] == (1 << self.size(pair[0])) - 1:
+            return None
+        return pair
+
     def written(self):
         """The machine that the lines write."""
         first = [(1 << size) - 1 for name, size in self.cells]
@@ -94,15 +113,10 @@ def take_cell(draft, words):
 
 def take_first(draft, words):
     """Take the rest of a line with the word first; False if it cannot stand here."""
-    if not words or draft.deeds:
+    pair = draft.next_part(draft.masks, words)
+    if pair is None or draft.deeds:
         return False
-    cell = draft.next_cell(draft.masks, words[0])
-    if cell < 0:
-        return False
-    mask = read_mask(words[1:], draft.size(cell))
-    if mask == 0 or mask == (1 << draft.size(cell)) - 1:
-        return False
-    draft.masks.append((cell, mask))
+    draft.masks.append(pair)
     return True
 
 
@@ -120,16 +134,13 @@ def take_deed(draft, words):
 
 def take_when(draft, words):
     """Take the rest of a line with the word when; False if it cannot stand here."""
-    if not words or not draft.deeds:
+    if not draft.deeds:
         return False
     name, guard, changes = draft.deeds[-1]
-    cell = draft.next_cell(guard, words[0])
-    if changes or cell < 0:
+    pair = draft.next_pair(guard, words)
+    if pair is None or changes:
         return False
-    mask = read_mask(words[1:], draft.size(cell))
-    if mask == 0:
-        return False
-    draft.deeds[-1] = (name, guard + ((cell, mask),), changes)
+    draft.deeds[-1] = (name, guard + (pair,), changes)
     return True
 
 

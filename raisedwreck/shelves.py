@@ -12,6 +12,13 @@ class Shelf:
         # indexes that many cells leave over are found without a look at each sketch.
         self.having = [[0] * mask.bit_length() for mask in full]
 
+    def copied(self):
+        """A shelf with the same sketches, on which others can be put without a change of this one."""
+        shelf = Shelf([])
+        shelf.sketches = list(self.sketches)
+        shelf.having = [list(row) for row in self.having]
+        return shelf
+
     def put(self, sketch):
         """Put a sketch behind the others."""
         own = 1 << len(self.sketches)

@@ -47,20 +47,21 @@ def tell(machine, image, piece):
     """The Answer to the question whether a piece is told for an image (point 19)."""
     check_question(machine, image, piece)
     search = Search(machine, piece)
-    start = search.go_back(without(image, piece), machine.first)
+    start = search.go_back(without(image, piece), [machine.first])
     if start is None:
         return Answer(True, write_paper(machine, image, piece, search.shelf.sketches), None, None)
     disk, deeds = search.history_from(start)
     return Answer(False, None, disk, deeds)
 
 
-def shortest_history(machine, parts, piece):
+def shortest_history(machine, parts, piece, limit=None):
     """The first disk and the deeds of a history without the piece that ends in one of the parts, or None.
 
-    The parts are sketches whose disks do not have the piece. No such history has fewer deeds.
+    The parts are sketches whose disks do not have the piece. No such history has fewer deeds;
+    if there is a limit, it has at most so many.
     """
     search = Search(machine, piece)
-    start = search.go_back(parts, machine.first)
+    start = search.go_back(parts, [machine.first], limit)
     if start is None:
         return None
     return search.history_from(start)
@@ -79,23 +80,32 @@ class Search:
         self.shelf = Shelf(machine.full)
         self.steps = {}
 
-    def go_back(self, parts, goal):
-        """Go back from the parts to a sketch that meets the goal, and return it, or None if there is none.
+    def go_back(self, parts, goals, limit=None):
+        """Go back from the parts to a sketch that meets one of the goals, and return it, or None if there is none.
 
-        The sketches are found in the order of the number of deeds on the way to the
-        parts, so no way that is shorter leads there from the goal. If the goal is
-        None, all sketches are found.
+        The sketches are found in the order of the number of deeds on the way to the parts,
+        so no way that is shorter leads there from a goal. Without a goal, all sketches are
+        found; if there is a limit, those on ways of at most so many deeds.
         """
         steps = {part: None for part in parts}
+        deeds = 0
         while steps:
-            news = put_largest_first(self.shelf, list(steps))
+            news = self.put(steps)
             for sketch in news:
-                self.steps[sketch] = steps[sketch]
-            for sketch in news:
-                if goal is not None and meets(sketch, goal):
+                if any([meets(sketch, goal) for goal in goals]):
                     return sketch
+            if deeds == limit:
+                return None
+            deeds += 1
             steps = self.steps_before(news)
         return None
+
+    def put(self, steps):
+        """Put the sketches of steps on the shelf that are in no other one, and return the list of them."""
+        news = put_largest_first(self.shelf, list(steps))
+        for sketch in news:
+            self.steps[sketch] = steps[sketch]
+        return news
 
     def steps_before(self, sketches):
         """The steps that lead to the sketches from what is left before them and is not on the shelf."""
@@ -118,6 +128,11 @@ class Search:
             deeds.append(deed)
             step = self.steps[later]
         return tuple(deeds)
+
+    def deeds_from_disk(self, disk):
+        """The deeds that lead from a disk of a sketch that was found to a disk of the parts."""
+        place = self.shelf.place(tuple([1 << value for value in disk]))
+        return self.deeds_from(self.shelf.sketches[place])
 
     def history_from(self, sketch):
         """A first disk in a sketch that was found, and the deeds that lead from it to a disk of the parts."""

@@ -48,17 +48,17 @@ def tell_order(machine, image, early, late):
     """The OrderAnswer to the question whether the order of two pieces is told for an image (point 23)."""
     check_order(machine, image, early, late)
     ending = Search(machine, [])
-    ending.go_back([image], None)
+    ending.go_back([image], [])
     reach = shelf_of_largest(machine, ending.shelf.sketches)
     search = Search(machine, early)
     parts = [part for sketch in reach.sketches for part in late_parts(sketch, early, late)]
-    start = search.go_back(parts, machine.first)
+    start = search.go_back(parts, [machine.first])
     if start is None:
         paper = write_order_paper(machine, early, late, reach, places(reach, [image]), search.shelf.sketches)
         return OrderAnswer(True, paper, None, None, None)
     disk, deeds = search.history_from(start)
     last = moments(machine, disk, deeds)[-1]
-    return OrderAnswer(False, None, disk, deeds + deeds_to_the_end(ending, last), len(deeds))
+    return OrderAnswer(False, None, disk, deeds + ending.deeds_from_disk(last), len(deeds))
 
 
 def late_parts(sketch, early, late):
@@ -73,12 +73,6 @@ def write_order_paper(machine, early, late, reach, cover, sketches):
     links = [places(shelf, late_parts(sketch, early, late)) for sketch in reach.sketches]
     return OrderPaper(reach.sketches, cover, write_table(machine, [], reach),
                       shelf.sketches, links, write_table(machine, early, shelf))
-
-
-def deeds_to_the_end(ending, disk):
-    """The deeds that lead from a disk to a disk of the image from which a search has gone back."""
-    place = ending.shelf.place(tuple([1 << value for value in disk]))
-    return ending.deeds_from(ending.shelf.sketches[place])
 
 
 def judge_order(machine, image, early, late, paper):

@@ -204,6 +204,38 @@ def reached(machine, piece=()):
     return found
 
 
+def plain_judgement(machine, image, piece):
+    """The judgement on a piece, by a walk over all disks that notes whether the piece was there."""
+    found = {(disk, is_in_some(disk, piece)) for disk in disks_in(machine.first)}
+    waiting = sorted(found)
+    while waiting:
+        disk, had = waiting.pop()
+        for new in steps_of(machine, disk):
+            pair = (new, had or is_in_some(new, piece))
+            if pair not in found:
+                found.add(pair)
+                waiting.append(pair)
+    ends = {had for disk, had in found if is_in(disk, image)}
+    if not ends:
+        return "contradictory"
+    if ends == {True}:
+        return "told"
+    return "possible" if True in ends else "impossible"
+
+
+def plain_core(machine, image):
+    """The core of a contradictory image, with all disks that can be reached."""
+    found = reached(machine)
+    kept = []
+    for cell in range(len(image)):
+        wider = image[:cell] + (machine.full[cell],) + image[cell + 1:]
+        if any(is_in(disk, wider) for disk in found):
+            kept.append(cell)
+        else:
+            image = wider
+    return kept
+
+
 def moments_of(machine, disk, deeds):
     """The moments of a history, or None if the disk and the deeds are none."""
     if disk not in disks_in(machine.first):

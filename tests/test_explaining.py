@@ -30,19 +30,6 @@ def plain_count(machine, image, length):
     return sum(many for disk, many in ways.items() if samples.is_in(disk, image))
 
 
-def plain_core(machine, image):
-    """The core of a contradictory image, with all disks that can be reached."""
-    found = samples.reached(machine)
-    kept = []
-    for cell in range(len(image)):
-        wider = image[:cell] + (machine.full[cell],) + image[cell + 1:]
-        if any(samples.is_in(disk, wider) for disk in found):
-            kept.append(cell)
-        else:
-            image = wider
-    return kept
-
-
 def readings_sketch(machine, cells, reading):
     """The sketch of all disks with a reading."""
     found = dict(zip(cells, reading))
@@ -235,7 +222,7 @@ class Cores(unittest.TestCase):
             machine, image = contradictory(dice)
             found = core(machine, image)
             self.assertIsInstance(found, list)
-            self.assertEqual(found, plain_core(machine, image))
+            self.assertEqual(found, samples.plain_core(machine, image))
             self.check_core(machine, image, found)
             sizes.add(len(found))
         self.assertTrue({1, 2} <= sizes)

@@ -6,7 +6,7 @@ import unittest
 from raisedwreck.errors import InvalidMachine, MachineSyntaxError
 from raisedwreck.machines import Machine
 from raisedwreck.machinetext import format_machine, parse_machine
-from tests import samples
+from tests import samples, texts
 
 TWO_CELLS = "cell a 2\ncell b 3\n"
 WHOLE = "cell a 2\ncell b 3\nfirst b 0\ndeed go\nwhen a 0\nwhen b 0 2\ncopy b a\ndeed on\nset a 1\nset b 2\ndeed of\n"
@@ -16,36 +16,10 @@ def parts(machine):
     return machine.cells, machine.deeds, machine.first
 
 
-def mask_of(values):
-    """The mask of values; values far beyond those of a cell are taken as one that is just too large."""
-    return sum(1 << min(int(value), 99) for value in values)
-
-
-def loosely_read(lines):
-    """A machine that lines might mean, with no look at their order; it fails in any way if there is none."""
-    cells, first, deeds, numbers = [], {}, [], {}
-    for line in lines:
-        word, name, *rest = line.split(" ")
-        if word == "cell":
-            numbers[name] = len(cells)
-            cells.append((name, int(rest[0])))
-        elif word == "first":
-            first[numbers[name]] = mask_of(rest)
-        elif word == "deed":
-            deeds.append((name, [], []))
-        elif word == "when":
-            deeds[-1][1].append((numbers[name], mask_of(rest)))
-        else:
-            source = int(rest[0]) if word == "set" else numbers[rest[0]]
-            deeds[-1][2].append((numbers[name], (word, source)))
-    masks = [first.get(number, mask_of(range(min(size, 99)))) for number, (_, size) in enumerate(cells)]
-    return Machine(cells, [(name, tuple(guard), tuple(changes)) for name, guard, changes in deeds], tuple(masks))
-
-
 def is_whole_text(text):
     """True if a text is the text of some machine: then it is that of the machine that it might mean."""
     try:
-        return format_machine(loosely_read(text.split("\n")[:-1])) == text
+        return format_machine(texts.loosely_read(text.split("\n")[:-1])) == text
     except (InvalidMachine, ValueError, KeyError, IndexError):
         return False
 
@@ -240,7 +214,7 @@ class Reading(unittest.TestCase):
         for _ in range(1500):
             text = format_machine(samples.random_machine(dice, 4, 4, 4))
             for _ in range(dice.randint(1, 2)):
-                text = spoilt(dice, text)
+                text = texts.spoilt(dice, text)
             index = first_wrong_line(text)
             if index is None:
                 self.accepted(text)
@@ -251,26 +225,6 @@ class Reading(unittest.TestCase):
 
     def test_two_calls_give_equal_machines(self):
         self.assertEqual(parts(parse_machine(WHOLE)), parts(parse_machine(WHOLE)))
-
-
-def spoilt(dice, text):
-    """A text in which some characters, words or lines are left out, doubled or exchanged."""
-    mark = dice.choice(["", " ", "\n"])
-    pieces = list(text) if mark == "" else text.split(mark)
-    at = dice.randrange(len(pieces)) if pieces else 0
-    other = dice.randrange(len(pieces)) if pieces else 0
-    way = dice.randrange(4)
-    if not pieces:
-        return text
-    if way == 0:
-        del pieces[at]
-    elif way == 1:
-        pieces.insert(at, pieces[other])
-    elif way == 2:
-        pieces[at], pieces[other] = pieces[other], pieces[at]
-    else:
-        pieces[at] = pieces[other]
-    return mark.join(pieces)
 
 
 if __name__ == "__main__":
