@@ -3,6 +3,7 @@
 from raisedwreck.counting import count_ways
 from raisedwreck.errors import InvalidSketch, NotContradictory
 from raisedwreck.machines import ascend, check_sketch, moments
+from raisedwreck.reaching import Reach
 from raisedwreck.sketches import all_disks, sketch_with, without
 from raisedwreck.telling import shortest_history
 
@@ -21,16 +22,23 @@ def count_histories(machine, image, length):
 
 def core(machine, image):
     """The core of a contradictory image, a list of numbers of cells (point 28)."""
-    if explanation(machine, image) is not None:
+    check_sketch(machine, image)
+    reach = Reach(machine, [])
+    if reach.reaches([image]):
         raise NotContradictory("some history ends in the image")
+    return needed_cells(reach, image)
+
+
+def needed_cells(reach, image):
+    """The core of a contradictory image, with the Reach without the empty piece."""
     kept = []
     wide = image
     for cell in range(len(image)):
-        wider = sketch_with(wide, [(cell, machine.full[cell])])
-        if wider == wide or explanation(machine, wider) is None:
-            wide = wider
-        else:
+        wider = sketch_with(wide, [(cell, reach.machine.full[cell])])
+        if reach.reaches([wider]):
             kept.append(cell)
+        else:
+            wide = wider
     return kept
 
 

@@ -1,6 +1,6 @@
 """Judgements on pieces, and the report on an image (points 48 and 49)."""
 
-from raisedwreck.explaining import core, explanation
+from raisedwreck.explaining import needed_cells
 from raisedwreck.machines import check_question, check_sketch
 from raisedwreck.reaching import Reach
 from raisedwreck.sketches import meet, meets, without
@@ -54,8 +54,8 @@ def report(machine, image, questions):
     check_sketch(machine, image)
     for label, piece in questions:
         check_question(machine, image, piece)
-    if explanation(machine, image) is None:
-        names = [machine.cells[cell][0] for cell in core(machine, image)]
-        return " ".join([CONTRADICTORY, *names]) + "\n"
     reach = Reach(machine, [])
+    if not reach.reaches([image]):
+        names = [machine.cells[cell][0] for cell in needed_cells(reach, image)]
+        return " ".join([CONTRADICTORY] + names) + "\n"
     return "".join([f"{label}: {judgement_on(reach, image, piece)}\n" for label, piece in questions])
