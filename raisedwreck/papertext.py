@@ -1,11 +1,10 @@
 """Papers as text (points 52 and 53)."""
 
 from raisedwreck.errors import PaperSyntaxError
-from raisedwreck.machines import MOST_VALUES
 from raisedwreck.machinetext import read_number
 from raisedwreck.telling import Paper
 
-LARGEST_MASK = (1 << MOST_VALUES) - 1
+LARGEST_MASK = 65535
 
 
 def format_paper(paper):

@@ -8,6 +8,8 @@ DATA = 2
 # The cells: the data disks stand before these.
 PARITY = 2
 WORK = 3
+# The mask of the values of the work that say that the parity was not yet written.
+UNFINISHED = 6
 
 
 class StripeForm:
@@ -41,7 +43,7 @@ def begin_deed(number, value):
 
 def end_deed(form, first, second):
     """The deed that finishes the parity of two values."""
-    guard = guard_of([(0, first), (1, second)]) + ((WORK, 6),)
+    guard = guard_of([(0, first), (1, second)]) + ((WORK, UNFINISHED),)
     return (f"e{first}{second}", guard, changes_of(ended_pairs(form, first, second)))
 
 

@@ -61,6 +61,18 @@ class Language(unittest.TestCase):
                 self.assertLess(text.count("\n"), 400)
                 self.assertTrue(all(len(line) <= 120 for line in text.split("\n")))
 
+    def test_modules_assign_plain_values_once(self):
+        for name, tree in self.trees:
+            assigned = [node for node in tree.body if isinstance(node, ast.Assign)]
+            targets = [ast.unparse(target) for node in assigned for target in node.targets]
+            self.assertEqual(len(targets), len(set(targets)), name)
+            self.assertTrue(all(target.isidentifier() for target in targets), name)
+            for node in assigned:
+                self.assertIsInstance(node.value, (ast.Constant, ast.Dict), (name, node.lineno))
+            others = [node for node in tree.body if node not in assigned]
+            allowed = (ast.FunctionDef, ast.ClassDef, ast.ImportFrom, ast.Expr)
+            self.assertTrue(all(isinstance(node, allowed) for node in others), name)
+
     def test_functions_are_short(self):
         for name, tree in self.trees:
             for node in ast.walk(tree):
